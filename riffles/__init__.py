@@ -1,0 +1,1 @@
+"""Riffles: packs of cards cut, riffled and dealt."""
