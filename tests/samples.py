@@ -1,5 +1,8 @@
 """What several tests hand in: moves that fit a pack, and wrong inputs of every kind."""
 
+import signal
+from contextlib import contextmanager
+
 from riffles.moves import Cut, Deal, Riffle, Turn, Under, Weave
 
 
@@ -68,6 +71,11 @@ def misfits():
     return pairs
 
 
+def with_rows(cards, many):
+    """An order of just so many rows: the first cards turned about, each a row, and the others behind the last of them."""
+    return list(range(many))[::-1] + list(range(many, cards))
+
+
 def mingled(cards):
     """An order that is neither sorted nor turned about, but for the smallest packs."""
     return sorted(range(cards), key=lambda card: (card + 1) * 37 % 61)
@@ -76,3 +84,18 @@ def mingled(cards):
 def told(move):
     """A move's name and values, for a message."""
     return f"{type(move).__name__} {vars(move)}"
+
+
+@contextmanager
+def promptly():
+    """Fails where the answer does not come within a minute, instead of waiting for it."""
+    def too_slow(number, frame):
+        raise AssertionError("the answer does not come promptly")
+
+    before = signal.signal(signal.SIGALRM, too_slow)
+    signal.alarm(60)
+    try:
+        yield
+    finally:
+        signal.alarm(0)
+        signal.signal(signal.SIGALRM, before)

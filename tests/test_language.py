@@ -128,6 +128,28 @@ class Language(unittest.TestCase):
                 self.assertIsInstance(node.right, ast.Constant, f"L27 {place}")
                 self.assertLessEqual(node.right.value, 64, f"L27 {place}")
 
+    def test_errors(self):
+        for place, node in self.nodes(ast.Raise):
+            self.assertIsInstance(node.exc, ast.Call, f"L19 {place}")
+        for place, node in self.nodes(ast.ExceptHandler):
+            self.assertIsInstance(node.type, ast.Name, f"L6 {place}")
+            self.assertNotIn(node.type.id, ("Exception", "TypeError"), f"L19 {place}")
+
+    def test_classes_are_not_handed_on(self):
+        made = {node.name for place, node in self.nodes(ast.ClassDef)}
+        fit = set()
+        for place, node in self.nodes(ast.Call, ast.ClassDef, ast.ExceptHandler):
+            if isinstance(node, ast.ClassDef):
+                fit.update(id(base) for base in node.bases)
+            elif isinstance(node, ast.ExceptHandler):
+                fit.add(id(node.type))
+            else:
+                fit.add(id(node.func))
+                if isinstance(node.func, ast.Name) and node.func.id == "isinstance":
+                    fit.add(id(node.args[1]))
+        for place, node in self.nodes(ast.Name):
+            self.assertTrue(node.id not in made or id(node) in fit, f"L18 {place}")
+
     def test_functions_and_classes(self):
         for place, node in self.nodes(ast.FunctionDef, ast.Lambda):
             given = node.args

@@ -2,11 +2,14 @@
 
 import unittest
 
-from riffles.errors import BadMove, BadNumber, BadOrder
+from riffles.errors import BadMove, BadNumber, BadOrder, BadText
 from riffles.moves import Cut, Deal, Move, Riffle, Turn, Under, Weave, done_all
 from riffles.rings import period, repeated, rings
-from tests.samples import (WRONG_MOVE_LISTS, WRONG_MOVES, WRONG_ORDERS, endless, fitting, mingled, misfits, told,
-                           wrong_numbers)
+from riffles.rows import orders_with, riffles_to, rows, ways
+from riffles.texts import read, written
+from riffles.tricks import brought, mixed
+from tests.samples import (OF_WRONG_KIND, WRONG_MOVE_LISTS, WRONG_MOVES, WRONG_ORDERS, endless, fitting, mingled, misfits,
+                           told, wrong_numbers)
 
 MOST_TIMES = 10 ** 18
 
@@ -49,9 +52,14 @@ class Orders(Refusals):
                 self.refused(BadOrder, repeated, move, wrong, 1)
             self.refused(BadOrder, done_all, [], wrong)
 
+            for door in (rows, riffles_to, mixed):
+                self.refused(BadOrder, door, wrong)
+            self.refused(BadOrder, ways, wrong, 1)
+
     def test_refused_even_where_no_time_is_asked(self):
         for wrong in WRONG_ORDERS:
             self.refused(BadOrder, repeated, Turn(), wrong, 0)
+            self.refused(BadOrder, ways, wrong, 0)
 
 
 class WhatTellsNoMove(Refusals):
@@ -101,6 +109,27 @@ class WhatTellsNoMove(Refusals):
     def test_what_is_no_list_of_moves(self):
         for wrong in WRONG_MOVE_LISTS:
             self.refused(BadMove, done_all, wrong, [0, 1, 2, 3])
+            self.refused(BadMove, written, wrong)
+
+    def test_a_bare_move_made_all_the_same(self):
+        bare = Move.__new__(Move)
+        self.refused(BadMove, bare.done, [0, 1])
+        self.refused(BadMove, bare.undone, [0, 1])
+        self.refused(BadMove, rings, bare, 2)
+        self.refused(BadMove, done_all, [bare], [0, 1])
+        self.refused(BadMove, written, [bare])
+        self.refused(BadMove, written, [Turn(), bare])
+
+
+class WhatIsNoText(Refusals):
+    def test_of_another_kind(self):
+        for wrong in [value for value in OF_WRONG_KIND if not isinstance(value, str)]:
+            self.refused(BadText, read, wrong)
+
+    def test_by_name(self):
+        for wrong in (0, 1, -1, 10 ** 30, 10 ** 5000, [], ["turn"], ("turn",), {"turn": 1}, {"turn"}, b"turn", b"",
+                      bytearray(b"turn"), [["turn"]], Turn(), [Turn()], endless(), iter("turn"), str):
+            self.refused(BadText, read, wrong)
 
 
 class Misfits(Refusals):
@@ -141,9 +170,47 @@ class Numbers(Refusals):
             for move in MOVES_OF_FOUR:
                 self.refused(BadNumber, repeated, move, [0, 1, 2, 3], wrong)
 
+    def test_what_is_no_count_of_riffles(self):
+        for wrong in wrong_numbers(0, 30):
+            for order in ([0], [0, 1, 2], [2, 1, 0], mingled(60)):
+                self.refused(BadNumber, ways, order, wrong)
+        for many in range(31):
+            self.assertGreater(ways([0], many), 0)
+
+    def test_what_is_no_count_of_cards_or_of_rows(self):
+        for wrong in wrong_numbers(1, 60):
+            for many in (0, 1, 60):
+                self.refused(BadNumber, orders_with, wrong, many)
+        for wrong in wrong_numbers(0, 60):
+            for cards in (1, 4, 60):
+                self.refused(BadNumber, orders_with, cards, wrong)
+        for cards in range(1, 61):
+            self.assertEqual(orders_with(cards, 1), 1)
+        for many in range(61):
+            self.assertGreaterEqual(orders_with(60, many), 0)
+
+    def test_what_is_no_even_count_of_cards(self):
+        for wrong in wrong_numbers(2, 60) + list(range(-3, 65, 2)) + [-2, 0, 62]:
+            for place in (0, 1):
+                self.refused(BadNumber, brought, wrong, place)
+        for cards in range(2, 61, 2):
+            self.assertIsInstance(brought(cards, cards - 1), list)
+
+    def test_what_is_no_place_of_the_pack(self):
+        for cards in range(2, 61, 2):
+            for wrong in wrong_numbers(0, cards - 1):
+                self.refused(BadNumber, brought, cards, wrong)
+
     def test_the_edges_by_name(self):
         for wrong in (-1, MOST_TIMES + 1, True, False):
             self.refused(BadNumber, repeated, Cut(1), [0, 1, 2], wrong)
+        for wrong in (-1, 31, True, False):
+            self.refused(BadNumber, ways, [0, 1, 2], wrong)
+        for cards, many in ((0, 1), (61, 1), (True, 1), (False, 1), (1, -1), (1, 61), (1, True), (1, False), (0, 61)):
+            self.refused(BadNumber, orders_with, cards, many)
+        for cards, place in ((0, 0), (1, 0), (3, 0), (59, 0), (61, 0), (62, 0), (True, 0), (2, 2), (2, -1), (60, 60),
+                             (2, True), (2, False), (3, 3), (0, -1)):
+            self.refused(BadNumber, brought, cards, place)
         for wrong in (0, 61, -1, True, False):
             self.refused(BadNumber, rings, Turn(), wrong)
             self.refused(BadNumber, period, Turn(), wrong)
@@ -192,6 +259,11 @@ class WhichComesFirst(Refusals):
             for times in (-1, MOST_TIMES + 1, True, None, 1):
                 self.refused(BadOrder, repeated, Turn(), order, times)
                 self.refused(BadOrder, repeated, Cut(60), order, times)
+
+    def test_ways_order_ahead_of_number(self):
+        for order in WRONG_ORDERS:
+            for many in (-1, 31, 10 ** 30, True, None, "1", [1]):
+                self.refused(BadOrder, ways, order, many)
 
     def test_repeated_times_ahead_of_misfit(self):
         for move in (Cut(60), Weave(0), Riffle("ab")):

@@ -1,11 +1,10 @@
 """Point 5: rings, periods, and moves done many times."""
 
-import signal
 import unittest
 
 from riffles.moves import Cut, Deal, Riffle, Turn, Under, Weave
 from riffles.rings import period, repeated, rings
-from tests.samples import fitting, mingled, told
+from tests.samples import fitting, mingled, promptly, told
 
 MOST_TIMES = 10 ** 18
 
@@ -156,9 +155,7 @@ class Repeated(unittest.TestCase):
                 self.assertEqual(repeated(move, order, times - 1), move.undone(order), told(move))
 
     def test_most_times_promptly(self):
-        signal.signal(signal.SIGALRM, too_slow)
-        signal.alarm(60)
-        try:
+        with promptly():
             for many in (1, 2, 59, 60):
                 order = mingled(many)
                 for move in fitting(many):
@@ -166,8 +163,6 @@ class Repeated(unittest.TestCase):
                         places = doublings(move, many, times)
                         after = [order[place] for place in places]
                         self.assertEqual(repeated(move, order, times), after, told(move))
-        finally:
-            signal.alarm(0)
 
     def test_nothing_changed_or_kept(self):
         for times in (0, 1, 7, MOST_TIMES):
@@ -184,10 +179,6 @@ class Repeated(unittest.TestCase):
         self.assertEqual(repeated(move=Cut(1), order=[0, 1, 2], times=2), [2, 0, 1])
         self.assertEqual(rings(move=Turn(), many=2), [[0, 1]])
         self.assertEqual(period(move=Turn(), many=2), 2)
-
-
-def too_slow(number, frame):
-    raise AssertionError("the answer does not come promptly")
 
 
 if __name__ == "__main__":
